@@ -4,6 +4,7 @@ import (
 	"slices"
 
 	"noctuary/api"
+	"noctuary/codes"
 )
 
 // letter is what a house tells another one: how many notes of each house it knows, and some of them.
@@ -12,35 +13,40 @@ type letter struct {
 	notes  []api.Note
 }
 
+// sealed is a letter as it is posted: each note is bytes of its own.
+type sealed struct {
+	counts []int
+	notes  [][]byte
+}
+
+func sealedCode(s codes.Scribe, x *sealed) {
+	codes.List(s, &x.counts)
+	codes.Elements(s, &x.notes, codes.Scribe.Bytes)
+}
+
 // bytes returns a letter as it is posted.
 func (x letter) bytes() []byte {
-	var codes [][]byte
+	out := sealed{counts: x.counts}
 	for _, n := range x.notes {
-		codes = append(codes, codeOf(n))
+		out.notes = append(out.notes, codeOf(n))
 	}
-	w := &writer{}
-	scribe(w.number).list(&x.counts)
-	elements(w.number, &codes, w.code)
-	return w.made
+	l, _ := codes.Code[sealed](sealedCode).Write(out)
+	return l
 }
 
 // letterOf returns the letter that bytes are.
 func letterOf(b api.Base, l []byte) (letter, api.Errno) {
-	var x letter
-	e := read(l, func(r *reader) {
-		var codes [][]byte
-		scribe(r.number).list(&x.counts)
-		elements(r.number, &codes, r.code)
-		for _, code := range codes {
-			n, e := Decode(b, code)
-			if e != api.OK {
-				panic(e)
-			}
-			x.notes = append(x.notes, n)
-		}
-	})
-	if e != api.OK || len(x.counts) != api.MaxHouses || slices.ContainsFunc(x.counts, isNoCount) {
+	in, right := codes.Code[sealed](sealedCode).Read(l)
+	if !right || len(in.counts) != api.MaxHouses || slices.ContainsFunc(in.counts, isNoCount) {
 		return letter{}, api.ErrCode
+	}
+	x := letter{counts: in.counts}
+	for _, code := range in.notes {
+		n, e := Decode(b, code)
+		if e != api.OK {
+			return letter{}, e
+		}
+		x.notes = append(x.notes, n)
 	}
 	return x, api.OK
 }
