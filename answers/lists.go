@@ -2,61 +2,83 @@ package answers
 
 import (
 	"slices"
+	"sort"
 
 	"noctuary/api"
 	"noctuary/names"
 )
 
-// lists tells what a valid book has at the versions of years. It keeps what it was asked for, as a call of package names goes through the whole book.
+// lists tells what a valid book, which is not rich, has at the versions of years. It asks for all fates once, and for nothing else, as each call of package names goes through the whole book.
 type lists struct {
-	book     api.NameBook
-	last     int
-	ofYears  map[int]int     // the versions of years
-	versions map[int][]int   // the names of versions
-	meanings map[int][][]int // what each of these may be at the last version
+	changes []api.Change
+	fates   [][]int
+	known   map[int]list // the versions that were asked for
+}
+
+// list is the names of a version, in order, with what each of them may be at the last version, in order: those of the name with the index i begin at the index from[i] of meanings, and end where those of the next one begin.
+type list struct {
+	names, from, meanings []int
+}
+
+// find returns what a name of the version may be at the last one, if it is a name of it.
+func (l list) find(name int) (meaning []int, found bool) {
+	i, found := slices.BinarySearch(l.names, name)
+	if !found {
+		return nil, false
+	}
+	return l.meanings[l.from[i]:l.from[i+1]], true
 }
 
 func listsOf(b api.NameBook) lists {
-	last, _ := names.Last(b)
-	return lists{book: b, last: last, ofYears: map[int]int{}, versions: map[int][]int{}, meanings: map[int][][]int{}}
+	fates, _ := names.Fates(b)
+	return lists{changes: b.Changes, fates: fates, known: map[int]list{}}
 }
 
-// once returns what belongs to a key; it is found out when it is asked for the first time.
-func once[K comparable, V any](known map[K]V, key K, find func(K) V) V {
-	if v, found := known[key]; found {
-		return v
-	}
-	v := find(key)
-	known[key] = v
-	return v
-}
+// last returns the number of the last version.
+func (l lists) last() int { return len(l.changes) }
 
-// versionOf returns the version of a year.
+// versionOf returns the version of a year: the number of changes up to it.
 func (l lists) versionOf(year int) int {
-	return once(l.ofYears, year, func(year int) int {
-		v, _ := names.VersionOf(l.book, year)
-		return v
-	})
+	return sort.Search(len(l.changes), func(i int) bool { return l.changes[i].Year > year })
 }
 
-// namesAt returns the names of a version, in order.
-func (l lists) namesAt(v int) []int {
-	return once(l.versions, v, func(v int) []int {
-		out, _ := names.Names(l.book, v)
+// at returns a version.
+func (l lists) at(v int) list {
+	if out, asked := l.known[v]; asked {
 		return out
-	})
+	}
+	out := list{}
+	for i, x := range l.passages(v) {
+		if k := len(out.names); k == 0 || out.names[k-1] != x.then {
+			out.names, out.from = append(out.names, x.then), append(out.from, i)
+		}
+		out.meanings = append(out.meanings, x.now)
+	}
+	out.from = append(out.from, len(out.meanings))
+	l.known[v] = out
+	return out
 }
 
-// stepsFrom returns what each name of a version may be at the last one.
-func (l lists) stepsFrom(v int) [][]int {
-	return once(l.meanings, v, func(v int) [][]int {
-		out, _ := names.Steps(l.book, v, l.last)
-		return out
+// passage is a name of a version, and one that it may be at the last version.
+type passage struct{ then, now int }
+
+// passages returns those of a version, in order, each once.
+func (l lists) passages(v int) []passage {
+	out := make([]passage, 0, len(l.fates))
+	for _, fate := range l.fates {
+		out = append(out, passage{then: fate[v], now: fate[l.last()]})
+	}
+	slices.SortFunc(out, func(a, b passage) int {
+		if a.then != b.then {
+			return a.then - b.then
+		}
+		return a.now - b.now
 	})
+	return slices.Compact(out)
 }
 
 // now returns the names of the last version.
-func (l lists) now() []int { return l.namesAt(l.last) }
+func (l lists) now() []int { return l.at(l.last()).names }
 
 // hasNow reports whether the last version has a name.
 func (l lists) hasNow(name int) bool {
@@ -75,9 +97,9 @@ func (l lists) haveNames(year int, some ...int) bool {
 	if !between(year, 0, api.MaxYear) {
 		return false
 	}
-	all := l.namesAt(l.versionOf(year))
+	all := l.at(l.versionOf(year))
 	for _, name := range some {
-		if _, found := slices.BinarySearch(all, name); !found {
+		if _, found := all.find(name); !found {
 			return false
 		}
 	}
@@ -86,19 +108,27 @@ func (l lists) haveNames(year int, some ...int) bool {
 
 // meaningNow returns what some names of the version of a year may be at the last version, in order, each once.
 func (l lists) meaningNow(year int, some []int) []int {
-	v := l.versionOf(year)
-	all, steps := l.namesAt(v), l.stepsFrom(v)
+	all := l.at(l.versionOf(year))
 	var out []int
 	for _, name := range some {
-		i, _ := slices.BinarySearch(all, name)
-		out = append(out, steps[i]...)
+		meaning, _ := all.find(name)
+		out = append(out, meaning...)
 	}
 	slices.Sort(out)
 	return slices.Compact(out)
 }
 
-// exactNow returns the name of the last version that is the same as one of the version of a year, if there is one.
+// exactNow returns the name of the last version that is the same as one of the version of a year, if there is one: that through which just the fates through this one go.
 func (l lists) exactNow(year, name int) (now int, found bool) {
-	now, e := names.Exact(l.book, l.versionOf(year), name, l.last)
-	return now, e == api.OK
+	v := l.versionOf(year)
+	may, _ := l.at(v).find(name)
+	if len(may) != 1 {
+		return 0, false
+	}
+	for _, fate := range l.fates {
+		if fate[l.last()] == may[0] && fate[v] != name {
+			return 0, false
+		}
+	}
+	return may[0], true
 }
